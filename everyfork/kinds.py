@@ -3,6 +3,11 @@
 PLAIN_KINDS = ("num", "text", "row")
 NO_NAMES = ("num", "text", "row", "gives", "rounds", "range")
 LETTERS = "abcdefghijklmnopqrstuvwxyz"
+# All signs that texts may have, by their numbers from 32 on; the one numbered 37 has no place among them.
+SIGNS = (
+    " !\"#$&'()*+,-./0123456789:;<=>?@ABCDEFGHIJKLMNOPQRSTUVWXYZ"
+    "[\\]^_`abcdefghijklmnopqrstuvwxyz{|}~"
+)
 
 
 def is_whole(thing):
@@ -19,6 +24,11 @@ def is_between(thing, least, most):
 def is_sign_number(number):
     """Whether a whole number is that of a sign that texts may have."""
     return 32 <= number <= 126 and number != 37
+
+
+def sign_of(number):
+    """The sign of a number that is one."""
+    return SIGNS[number - 32] if number < 37 else SIGNS[number - 33]
 
 
 def is_text(thing):
@@ -39,6 +49,11 @@ def fields_of(program, kind):
         if record[0] == kind:
             return record[1]
     return ()
+
+
+def field_kinds(program, kind):
+    """The kinds of a record's fields, in order; none of what is no record."""
+    return [field[1] for field in fields_of(program, kind)]
 
 
 def field_kind(program, kind, field):

@@ -66,6 +66,26 @@ def within(statement):
     return told
 
 
+def numbered(body, first):
+    """The statements of a body itself with their numbers, first being that of the first one."""
+    told = []
+    number = first
+    for statement in body:
+        told.append((number, statement))
+        number += 1 + len(within(statement))
+    return told
+
+
+def numbered_bodies(k, statement):
+    """The bodies of the line k with the numbers of their own statements."""
+    told = []
+    first = k + 1
+    for body in bodies_of(statement):
+        told.append(numbered(body, first))
+        first += len(lines_in(body))
+    return told
+
+
 def spots_of_line(f, k, statement):
     """The spots of one line."""
     word = statement[0]

@@ -1,6 +1,6 @@
 """The shapes of statements, expressions and conditions, and the kinds that expressions have."""
 
-from everyfork.kinds import field_kind, fields_of, is_between, is_text
+from everyfork.kinds import field_kind, field_kinds, is_between, is_text
 
 # Of each word: what it begins, how long that is, and at which places expressions or conditions stand in it.
 SHAPES = {
@@ -66,6 +66,16 @@ def is_shaped(thing, sort):
     return thing[0] not in LISTED or isinstance(thing[LISTED[thing[0]]], tuple)
 
 
+def sort_of(word):
+    """What a text begins as a word: a statement, an expression or a condition, or None where it begins nothing."""
+    return SHAPES[word][0] if word in SHAPES else None
+
+
+def inner_count(word):
+    """How many expressions or conditions stand straight within what a word begins, those of a tuple aside."""
+    return len(SHAPES[word][2])
+
+
 def inner_of(shaped):
     """The expressions or conditions that stand straight within a shaped thing, from left to right."""
     word = shaped[0]
@@ -122,8 +132,8 @@ def record_kind(program, e, inner):
         return field_kind(program, inner[0], e[2])
     if e[0] == "with":
         return inner[0] if field_kind(program, inner[0], e[2]) == inner[1] else None
-    wanted = tuple([field[1] for field in fields_of(program, e[1])])
-    return e[1] if len(wanted) > 0 and wanted == inner else None
+    wanted = field_kinds(program, e[1])
+    return e[1] if len(wanted) > 0 and wanted == list(inner) else None
 
 
 def kind_by(program, kinds, e, inner):

@@ -315,7 +315,14 @@ class Expressions(Refusals):
                    ("new", "point", (X, TEXT)), ("new", "none", (X, X)), ("new", "none", ()), ("new", "num", ()),
                    ("new", None, (X, X)), ("new", ("point",), (X, X)), ("new", ["point"], (X, X)), ("new", "point", X),
                    ("new", "sheet", (TEXT, ("var", "p"), ROW)), ("new", "point", (1, 2)), ("new", "f", (X, X))])
+        self.told("num", [], [("new", "num", ()), ("add", X, ("new", "num", ())), ("len", ("new", "row", ()))])
         self.told("sheet", [("new", "sheet", (TEXT, ("var", "p"), ROW))], [("new", "sheet", (TEXT, ROW, ("var", "p")))])
+
+    def test_new_of_one_field(self):
+        body = (("let", "x", ("of", ("new", "one", (X,)), "x")),)
+        records = (("one", (("x", "num"),)),)
+        self.right(program(body, (("x", "num"),), records=records))
+        self.refused(program(body, (("x", "num"),), records=(("two", (("x", "num"),)),)), 0, 0)
 
     def test_how_many(self):
         self.told("num", [sum_of(11), ("times", 2, sum_of(11))], [sum_of(13), ("times", 2, ("times", 2, sum_of(11)))])
@@ -359,7 +366,8 @@ class Conditions(Refusals):
     def test_other_things(self):
         self.told([], list(THINGS) + [
             X, GIVE, ("less", X), ("less", X, X, X), ["less", X, X], ("less", X, list(X)), ("less", 1, 2), ("not",),
-            ("not", LESS, LESS), ("and", LESS), ("or", LESS, LESS, LESS), ("and", LESS, X), ("or", X, LESS), ("not", X),
+            ("not", LESS, LESS), ("and", LESS), ("or", LESS, LESS, LESS), ("and", LESS, X), ("or", X, LESS), ("and", X, LESS),
+            ("or", LESS, X), ("not", X),
             ("less", LESS, LESS), ("same", X, LESS), ("equal", X, X), ("not", list(LESS)), ("and", LESS, nested(38)),
             ("less", X, nested(38)), (None, X, X), (True,), ("less", X, None), ("let", "x", NUM)])
 
