@@ -44,6 +44,16 @@ def not_of(form):
     return less(plain(-1), form)
 
 
+def above_by_one(one, other):
+    """The form that is 0 or more just where one form is above another."""
+    return together([(one, 1), (other, -1), (plain(1), -1)])
+
+
+def both_ways(one, other):
+    """The two forms that are both 0 or more just where two forms are the same."""
+    return [less(one, other), less(other, one)]
+
+
 def len_of(row_term):
     """The form of a row term's length."""
     behind = 0

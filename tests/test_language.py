@@ -256,11 +256,12 @@ class Language(unittest.TestCase):
 
     def test_walked_things_stay(self):
         for where, loop in self.each(ast.For):
-            walked = {node.id for node in ast.walk(loop.iter) if isinstance(node, ast.Name)}
+            walked = {ast.unparse(node) for node in ast.walk(loop.iter) if isinstance(node, (ast.Name, ast.Attribute))}
             for node in ast.walk(ast.Module(body=loop.body, type_ignores=[])):
                 if isinstance(node, ast.Call) and isinstance(node.func, ast.Attribute) and node.func.attr in CHANGES:
-                    if isinstance(node.func.value, ast.Name):
-                        self.assertNotIn(node.func.value.id, walked, f"L23 {where}")
+                    self.assertNotIn(ast.unparse(node.func.value), walked, f"L23 {where}")
+                if isinstance(node, ast.Subscript) and isinstance(node.ctx, ast.Store):
+                    self.assertNotIn(ast.unparse(node.value), walked, f"L23 {where}")
 
     def test_tops_are_only_read(self):
         kept = {}
