@@ -377,6 +377,21 @@ class Refutes(unittest.TestCase):
         self.told(facts, steps, True)
         self.told(facts[1:], steps, False)
 
+    def test_beyond_the_bounds(self):
+        """Each number of a row twelve deep is 1 or more, yet its last one is 0."""
+        row = R0
+        for _ in range(11):
+            row = ("more", row, ZERO)
+        last, length = form(10, lens(R0)), form(11, lens(R0))
+        facts = [("each", row, ZERO, length, 1, 0, (-1, ()))]
+        self.assertTrue(is_fact(facts[0]))
+        steps = (("len", R0), ("each", 0, last), ("sum", ((1, 1), (2, 1))), ("sum", ((2, 1),)), ("sum", ((1, 1), (2, 1))), ("sum", ((2, 1),)),
+                 ("there", row, last), ("sum", ((3, 1),)), ("sum", ((3, 1),)), ("sum", ((2, 1), (4, 1))))
+        self.told(facts, steps, True)
+        self.told(facts, steps[:-1], False)
+        deeper = ("more", row, ZERO)
+        self.told([("each", deeper, ZERO, form(12, lens(R0)), 1, 0, (-1, ()))], (("there", deeper, length),), False)
+
     def test_any_plain_thing(self):
         for thing in THINGS + (FACTS, tuple(FACTS), "sum", (("sum",),), ((),), (None,), ("sum", ((0, 1), (1, 1)))):
             self.told(FACTS, thing, False)
