@@ -8,6 +8,8 @@ MOST_IN_ONE = 200
 # These are counted, and counted as standing within one another.
 COUNTED = ("form", "thing", "row", "bare")
 
+NAME_HEADS = ("name", "was", "rounds")
+
 # Of a sort and a head: the sorts of what stands behind the head. A bare row is one of which a len may be asked.
 BEHIND = {
     ("fact", "least"): ("form",),
@@ -136,21 +138,32 @@ def sort_by_head(thing):
     return "fact" if ("fact", thing[0]) in BEHIND else "row"
 
 
-def found_in(thing, heads):
-    """What stands with one of these heads in a form, row term or fact, rising, each once."""
+def placed_in(thing, heads):
+    """What stands with one of these heads in a form, row term or fact, with its sort, as often as it stands."""
     waiting = [(sort_by_head(thing), thing)]
     found = []
     while waiting:
         task = waiting.pop()
         if task[0] in COUNTED and task[1][0] in heads:
-            found.append(task[1])
+            found.append(task)
         waiting.extend(stands_in(task[0], task[1]))
-    return sorted(set(found))
+    return found
+
+
+def found_in(thing, heads):
+    """What stands with one of these heads in a form, row term or fact, rising, each once."""
+    return sorted(set([task[1] for task in placed_in(thing, heads)]))
+
+
+def named_in(thing):
+    """The names in a form, row term or fact as (name, sort), num where it stands as a number, else row."""
+    found = placed_in(thing, NAME_HEADS)
+    return [(task[1], "num" if task[0] == "thing" else "row") for task in found]
 
 
 def names_in(thing):
     """The names in a form, row term or fact, rising, each once."""
-    return found_in(thing, ("name", "was", "rounds"))
+    return found_in(thing, NAME_HEADS)
 
 
 def unknowns_in(thing):
