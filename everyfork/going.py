@@ -254,7 +254,8 @@ class Going:
 
     def lighten(self, leaf):
         """Let the variables of the last frame whose terms are heavy for their values become unknowns."""
-        for x, terms in leaf.state[0][-1][1]:
+        now = leaf.state[0][-1][1]
+        for x, terms in now:
             if not all([is_bare(term) for term in terms]):
                 weight = sum([weight_of(term) for term in terms])
                 rows = [self.value_in(leaf, term) for term in terms if not is_whole(term[0])]

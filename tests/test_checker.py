@@ -124,7 +124,8 @@ class Right(Checked):
                       ("rounds", "g", False, ZERO), ("rounds", "h", 0, ZERO), ("rounds", "g", 0), ("rounds", "g", 0, ZERO, ZERO), ["rounds", "g", 0, ZERO],
                       ("rounds", "g", 0, 0), ("rounds", "g", 0, None), ("rounds", "g", 0, form(0, (name("x"), 1))), ("rounds", "g", 0, form(0, (name("z"), 1))),
                       ("rounds", "g", 0, form(0, (("n", 0), 1))), ("rounds", "g", 0, form(0, (("rounds",), 1))), ("rounds", "g", 0, form(0, (was("y"), 1))),
-                      ("rounds", ["g"], 0, ZERO), ("rounds", "g", "0", ZERO), ("rounds", "g", 0, least(0))):
+                      ("rounds", ["g"], 0, ZERO), ("rounds", "g", "0", ZERO), ("rounds", "g", 0, least(0)), ("round", "g", 0, ZERO), (None, "g", 0, ZERO),
+                      ("way", "g", 0, ZERO), ("rounds", None, 0, ZERO)):
             self.no(UP, ("f", (), (claim,), (), nodes))
 
     def test_any_plain_thing(self):
