@@ -272,6 +272,24 @@ class Whiles(Checked):
         self.no(program, ("f", (), (("rounds", "f", 0, (9, ())),), (), forked))
 
 
+# Terms that grow: variables become unknowns again and again.
+GROWING = made("""
+    function f num x num
+    local q row
+    local i num
+    local s num
+    while less var i 14
+        let q more var q add var i var x
+        let s add var s at var q var i
+        let i add 1 var i
+    end
+    say low less -1 var s
+    give at put var q 3 var s 13
+    end
+""")
+GROWING_PAPER = never(GROWING, "f", (0, 1, 0, 97, 97), 100, (("breaks", "f", 2, "range"), ("breaks", "f", 4, "low"), ("breaks", "f", 5, "range")))
+
+
 class SoIsWhatIsLetBy(unittest.TestCase):
     """Point 61, over papers that are bent, and over programs that are bent under a paper."""
 
@@ -281,6 +299,7 @@ class SoIsWhatIsLetBy(unittest.TestCase):
         (CALLING, shown_by(CALLING, "top", CALLING_PRE, CALLING_CLAIMS, {}, {"down": (CALLING_PRE, CALLING_POST)})),
         (ADDING, never(ADDING, "sum", (-1, 1, 2, 97, 97), 50, ADDING_CLAIMS[:2])),
         (CALLING, never(CALLING, "top", (0, 3, 0, 97, 97), 50, CALLING_CLAIMS)),
+        (GROWING, GROWING_PAPER),
     )
     OTHERS = (0, 1, None, True, (), ZERO, "x", "i", "do", "never", name("i"), least(-1), least(0), ("gave", ()), ("rounds",))
 
@@ -294,6 +313,7 @@ class SoIsWhatIsLetBy(unittest.TestCase):
     def test_papers_as_they_are(self):
         for number, (program, paper) in enumerate(self.PAPERS):
             self.assertTrue(self.look(program, paper, number))
+        self.assertEqual({node[1] for node in GROWING_PAPER[4] if node[0] == "new"}, {"q", "s"})
 
     def test_bent_papers(self):
         maker = random.Random(61)
